@@ -1,0 +1,1 @@
+"""Pivotfold: tables folded wide, unfolded, added up along, and kept."""
