@@ -3,6 +3,16 @@
 from pivotfold.errors import BadWay, NoNumber
 from pivotfold.values import rank
 
+WAYS = ("first", "last", "sum", "count", "least", "greatest", "unlike")
+
+
+def check_ways(ways, many, allowed):
+    if len(ways) != many:
+        raise BadWay("not a way for each column of values")
+    for way in ways:
+        if way not in allowed:
+            raise BadWay(f"no way {way!r}")
+
 
 def sum_of(numbers):
     if any([isinstance(number, str) for number in numbers]):
@@ -27,3 +37,11 @@ def put_together(some, way):
     if way == "unlike":
         return len(set(there))
     raise BadWay(f"no way {way!r}")
+
+
+def column_together(cells, place, way):
+    return put_together([cell[place] for cell in cells], way)
+
+
+def cells_together(cells, ways):
+    return tuple([column_together(cells, place, way) for place, way in enumerate(ways)])

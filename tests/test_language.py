@@ -132,8 +132,8 @@ class LanguageTest(unittest.TestCase):
     def test_l4_l6_l7_nodes(self):
         for stem, node in self.each_node():
             self.assertIn(type(node).__name__, NODES, self.at(stem, node))
-            if isinstance(node, ast.Expr):
-                self.assertTrue(isinstance(node.value, ast.Call) or is_docstring(node), self.at(stem, node))
+            if isinstance(node, ast.Expr) and node is not self.trees[stem].body[0]:
+                self.assertIsInstance(node.value, ast.Call, self.at(stem, node))
             if isinstance(node, ast.Assign):
                 self.assertEqual(len(node.targets), 1, self.at(stem, node))
             if isinstance(node, (ast.For, ast.While)):
@@ -174,6 +174,17 @@ class LanguageTest(unittest.TestCase):
         for stem, node in self.each_node():
             if isinstance(node, ast.Name) and hasattr(builtins, node.id):
                 self.assertIn(node.id, OWN_NAMES, self.at(stem, node))
+
+    def test_l15_no_local_is_called_like_a_class_or_an_import(self):
+        for stem, tree in self.trees.items():
+            taken = {node.name for node in tree.body if isinstance(node, ast.ClassDef)}
+            for node in tree.body:
+                if isinstance(node, ast.ImportFrom):
+                    taken |= {alias.asname or alias.name for alias in node.names}
+            for line, name in bound_names(tree):
+                if name in taken:
+                    classes = [node for node in tree.body if isinstance(node, ast.ClassDef) and node.lineno == line]
+                    self.assertTrue(classes, f"{stem}.py:{line} {name}")
 
     def test_l17_l25_l26_attributes(self):
         own = {node.name for _, node in self.each_node() if isinstance(node, ast.FunctionDef)}
