@@ -2,7 +2,7 @@
 
 from pivotfold.errors import NoNumber
 from pivotfold.foldby import check_folding, folded_by
-from pivotfold.folding import first_seen, parts_of, rows_laid_out
+from pivotfold.folding import cells_along, first_seen, parts_of, rows_laid_out
 from pivotfold.tables import kept
 from pivotfold.ways import cells_together, check_ways
 
@@ -24,10 +24,9 @@ def way_of_cells(way):
 
 def cells_by_cut(wide, deep, far):
     groups = {}
-    for part, cells in wide[4]:
-        for head, cell in zip(wide[3], cells):
-            if cell is not None:
-                groups.setdefault((part[:deep], head[:far]), []).append(cell)
+    for part, head, cell in cells_along(wide):
+        if cell is not None:
+            groups.setdefault((part[:deep], head[:far]), []).append(cell)
     return groups
 
 

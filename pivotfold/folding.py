@@ -47,8 +47,7 @@ def is_wide(thing):
 
 def check_all_columns(columns, key, names, values):
     together = list(key) + list(names) + list(values)
-    # As many as the table's unlike ones, and each of these among them: so each just once.
-    if len(together) != len(columns) or not all([name in together for name in columns]):
+    if len(together) != len(columns) or not all([together.count(name) == 1 for name in columns]):
         raise BadColumns("key, names and values are not all the columns, each once")
     if len(values) == 0:
         raise BadColumns("there is no column of values")
@@ -56,7 +55,7 @@ def check_all_columns(columns, key, names, values):
 
 def check_order(order):
     if order not in ORDERS:
-        raise BadOrder(f"no order {order!r}")
+        raise BadOrder("an order is seen or rising")
 
 
 # From each pair (part, head) that there is to the rising list of its rows' numbers.
@@ -121,12 +120,16 @@ def folded(table, key, names, values, order):
     return (tuple(key), tuple(names), tuple(values), heads, rows)
 
 
-def unfolded(wide):
-    rows = []
+# All cells, gaps too, as triples (part, head, cell), row by row, in each head by head.
+def cells_along(wide):
+    told = []
     for part, cells in wide[4]:
-        for head, each in zip(wide[3], cells):
-            if each is not None:
-                rows.append(part + head + each)
+        told.extend([(part, head, each) for head, each in zip(wide[3], cells)])
+    return told
+
+
+def unfolded(wide):
+    rows = [part + head + each for part, head, each in cells_along(wide) if each is not None]
     return (wide[0] + wide[1] + wide[2], tuple(rows))
 
 
@@ -134,28 +137,25 @@ def parts_of(wide):
     return tuple([part for part, cells in wide[4]])
 
 
+# The words of these refusals show no values: Python won't write out a number of some thousand
+# figures, as a text of a table may hold, and its own error would go in the refusal's place.
 def place_of_head(wide, head):
     if head not in wide[3]:
-        raise NoHead(f"no head {head!r}")
+        raise NoHead("no such head")
     return wide[3].index(head)
 
 
 def cell(wide, part, head):
     parts = parts_of(wide)
     if part not in parts:
-        raise NoPart(f"no part {part!r}")
+        raise NoPart("no such part")
     place = place_of_head(wide, head)
     cells = wide[4][parts.index(part)][1]
     return cells[place]
 
 
 def gaps(wide):
-    told = []
-    for part, cells in wide[4]:
-        for head, each in zip(wide[3], cells):
-            if each is None:
-                told.append((part, head))
-    return told
+    return [(part, head) for part, head, each in cells_along(wide) if each is None]
 
 
 def cells_filled(cells, filling):

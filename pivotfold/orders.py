@@ -24,7 +24,7 @@ def in_order(things, order):
         return list(reversed(risen(things)))
     if is_told_order(order):
         return in_told_order(things, order[1])
-    raise BadOrder(f"no order {order!r}")
+    raise BadOrder("an order is seen, rising, falling or told")
 
 
 def heads_in(wide, order):

@@ -30,6 +30,9 @@ METHODS = set(
     "isupper items join keys ljust lower lstrip partition pop remove replace reverse rfind rjust rpartition "
     "rsplit rstrip setdefault split splitlines startswith strip update upper values zfill bit_length".split()
 )
+# L26: what an object's values may be called, though Python's own values have it too.
+SHARED_VALUES = set("count index title find get join lower upper split strip copy add".split())
+PYTHONS_OWN = set().union(*[dir(kind) for kind in (str, int, list, tuple, dict, set, bytes)])
 DUNDERS = {"__init__", "__eq__", "__repr__", "__str__", "__len__"}
 UNUSED = set("register mro elements open input version_info with_traceback add_note".split())
 WORDS = re.compile(
@@ -193,6 +196,30 @@ class LanguageTest(unittest.TestCase):
                 self.assertNotIn(node.attr, UNUSED, self.at(stem, node))
             if isinstance(node, ast.Call) and isinstance(node.func, ast.Attribute):
                 self.assertIn(node.func.attr, METHODS | own, self.at(stem, node))
+
+    def test_l18_l26_l28_methods_and_values_of_objects(self):
+        methods = {}
+        values = {}
+        for stem, node in self.each_node():
+            if isinstance(node, ast.ClassDef):
+                names = [part.name for part in node.body if isinstance(part, ast.FunctionDef)]
+                self.assertEqual(len(names), len(set(names)), self.at(stem, node))
+                methods.update({name: self.at(stem, node) for name in names})
+            if isinstance(node, ast.Attribute) and isinstance(node.ctx, ast.Store):
+                self.assertEqual(ast.unparse(node.value), "self", self.at(stem, node))
+                values[node.attr] = self.at(stem, node)
+            if isinstance(node, ast.FunctionDef) and node.name == "__init__":
+                self.assertEqual([each for each in ast.walk(node) if isinstance(each, ast.Return)], [])
+        self.assertEqual(sorted(set(methods) & set(values)), [])
+        for name, place in methods.items():
+            self.assertTrue(name not in PYTHONS_OWN or name in METHODS | {"add", "discard", "__init__"}, f"{place} {name}")
+        for name, place in values.items():
+            self.assertTrue(name not in PYTHONS_OWN or name in SHARED_VALUES, f"{place} {name}")
+
+    def test_l6_one_name_a_target(self):
+        for stem, node in self.each_node():
+            if isinstance(node, ast.Assign):
+                self.assertNotIsInstance(node.targets[0], (ast.Tuple, ast.List), self.at(stem, node))
 
     def test_l19_errors(self):
         for stem, node in self.each_node():
